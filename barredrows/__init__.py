@@ -1,0 +1,1 @@
+"""Barredrows: any bits through a medium that bars some rows of signs."""
