@@ -1,10 +1,11 @@
 """Checks of what is passed: each raises the error that belongs to its parameter."""
 
-from barredrows.basics import is_between, is_count, is_row, is_sign
+from barredrows.basics import is_between, is_count, is_integer, is_row, is_sign
 from barredrows.errors import (
     InvalidBounds,
     InvalidCount,
     InvalidLimits,
+    InvalidNumbers,
     InvalidRow,
     InvalidSign,
     InvalidSigns,
@@ -17,6 +18,11 @@ from barredrows.errors import (
 MOST_IN_ROW = 2000
 MOST_IN_TABLE = 64
 MOST_LENGTH = 400
+
+
+def is_list(value):
+    """Whether any value is a list, or a tuple in the place of one."""
+    return isinstance(value, (list, tuple))
 
 
 def is_short_row(value):
@@ -60,11 +66,20 @@ def is_dict_of_state(value, signs, size):
 
 
 def check_table(table, signs):
-    if not isinstance(table, (list, tuple)) or not 1 <= len(table) <= MOST_IN_TABLE:
+    if not is_list(table) or not 1 <= len(table) <= MOST_IN_TABLE:
         raise InvalidTable(None)
     for position, leading in enumerate(table):
         if not is_dict_of_state(leading, signs, len(table)):
             raise InvalidTable(position)
+
+
+def check_numbers(numbers, size, least):
+    """Check numbers of so many states, each of which is an INTEGER of at least so much."""
+    if not is_list(numbers) or len(numbers) != size:
+        raise InvalidNumbers(None)
+    for position, number in enumerate(numbers):
+        if not is_integer(number) or number < least:
+            raise InvalidNumbers(position)
 
 
 def check_words(words, signs):

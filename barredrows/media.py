@@ -14,6 +14,7 @@ from barredrows.checks import (
 )
 from barredrows.errors import InvalidMedium, InvalidRow, NothingLeft, OtherSigns, TooMany
 from barredrows.shapes import barring_table, free_table, runs_table, sums_table
+from barredrows.steps import leads_of
 from barredrows.tables import least_rows, least_table, meet_table, walked
 
 
@@ -28,6 +29,7 @@ class Medium:
         check_table(table, self.LETTERS[:many])
         self._many = many
         self._table = medium_table(table)
+        self._leads = leads_of(self._table, self.LETTERS[:many])
 
     @classmethod
     def free(cls, many):
@@ -69,6 +71,14 @@ class Medium:
     def table(self):
         """The list of the dicts of the states."""
         return [dict(leading) for leading in self._table]
+
+    def leads(self):
+        """For each state a tuple of the states to which the signs lead, as barredrows.steps reckons with them."""
+        return self._leads
+
+    def walk(self, row, state):
+        """The state to which a row of any length leads from the state, None if it cannot be walked."""
+        return walked(self._table, row, state)
 
     def after(self, row, state=0):
         """The state to which the row leads from the state, None if it cannot be walked."""

@@ -96,3 +96,24 @@ def doubled(table, random):
     size = len(table)
     copies = [*table, *table]
     return [{sign: to + size * random.randrange(2) for sign, to in ways.items()} for ways in copies]
+
+
+def plain_sums(medium, length, numbers):
+    """For each state the sum of the numbers of the ends of its ways, from counting each way once."""
+    table = medium.table()
+    found = []
+    for state in range(len(table)):
+        ends = {state: 1}
+        for _ in range(length):
+            further = {}
+            for end, many in ends.items():
+                for to in table[end].values():
+                    further[to] = further.get(to, 0) + many
+            ends = further
+        found.append(sum(numbers[end] * many for end, many in ends.items()))
+    return found
+
+
+def kinds(value):
+    """The class of a list or tuple, and those of its elements."""
+    return [type(value), *map(type, value)]

@@ -3,9 +3,16 @@ import unittest
 from pathlib import Path
 
 from barredrows.counts import count, number_of, row_at, rows
+from barredrows.errors import InvalidNumbers
+from barredrows.exact import paper, too_few
+from barredrows.least import fallings, greatest_weights, needs
 from barredrows.media import Medium
+from barredrows.memory import is_endless, memory
+from barredrows.papers import Loads, Rate, Weights
 from barredrows.parting import parting
+from barredrows.rates import profile
 from barredrows.ways import parts, ways
+from tests.helpers import check_error
 
 
 class Examples(unittest.TestCase):
@@ -27,8 +34,25 @@ class Examples(unittest.TestCase):
         bb, sums = self.bb, self.sums
         told = [count(bb, 8), row_at(bb, 3, 2), number_of(bb, "bab"), list(rows(bb, 2, 1)), ways(bb, 3)]
         self.assertEqual(told, [55, "aba", 4, ["aa", "ab"], [[3, 2], [2, 1]]])
-        told = [parts(sums), parts(sums, 2), parting(bb, sums)]
-        self.assertEqual(told, [[[0, 1, 2]], [[0], [1, 2]], "aa"])
+        told = [parts(sums), parts(sums, 2), memory(bb), memory(sums), is_endless(sums, ("", "a", "ba")),
+                parting(bb, sums)]
+        self.assertEqual(told, [[[0, 1, 2]], [[0], [1, 2]], 1, None, True, "aa"])
+
+    def test_stage_3(self):
+        bb, sums = self.bb, self.sums
+        weights = Weights(bb, Rate(2, 3), [2, 1])
+        told = [weights.slack(0), weights.slack(1), (weights * 2).numbers(), Loads(bb, Rate(3, 4), [3, 2]).slack(0)]
+        self.assertEqual(told, [0, 1, [4, 2], 3])
+        told = [paper(bb, Rate(2, 3)).says(), paper(bb, Rate(3, 4)).says(), too_few(bb, Rate(3, 4)),
+                paper(sums, Rate(1, 2)).says()]
+        self.assertEqual(told, ["weights", "loads", 2, "weights"])
+        check_error(self, InvalidNumbers, Weights, bb, Rate(2, 3), [1, 1], position=1)
+
+    def test_stage_4(self):
+        bb, sums = self.bb, self.sums
+        told = [fallings(bb, Rate(2, 3), 1), greatest_weights(bb, Rate(2, 3), 3).numbers(), needs(bb, Rate(2, 3))]
+        self.assertEqual(told, [[[1, 1], [1, 0], [0, 0]], [3, 2], (2, 1)])
+        self.assertEqual([profile(bb), profile(sums)], [[0, 1, 2, 2, 3, 4], [0, 1, 1, 2, 2, 3]])
 
     def test_readme(self):
         text = (Path(__file__).resolve().parent.parent / "README.md").read_text()

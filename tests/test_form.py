@@ -25,12 +25,30 @@ INTERFACE = {
     },
     "ways": {"ways": "medium length", "ways_from": "medium length state", "parts": "medium length"},
     "parting": {"parting": "one other"},
+    "memory": {"memory": "medium", "endless_rows": "medium", "is_endless": "medium value"},
+    "papers": {
+        "Rate": "p q", "Rate.read": "string", "Rate.p": "", "Rate.q": "", "Rate.size": "", "Paper.medium": "",
+        "Paper.rate": "", "Paper.total": "", "Paper.numbers": "", "Paper.slack": "state",
+        "Weights": "medium rate numbers", "Weights.says": "", "Loads": "medium rate numbers", "Loads.says": "",
+    },
+    "exact": {"paper": "medium rate", "has_weights": "medium rate", "too_few": "medium rate more"},
+    "least": {
+        "fall": "medium rate numbers", "fallings": "medium rate most", "greatest_weights": "medium rate most",
+        "least_weight": "medium rate", "is_decline": "medium rate most value", "needs": "medium rate",
+    },
+    "rates": {"best": "medium length", "profile": "medium"},
 }
 OPERATORS = {
     "media": {"Medium": ["__len__", "__contains__", "__and__", "__rshift__", "__eq__", "__repr__"]},
     "drafts": {
         "Draft": ["__getitem__", "__setitem__", "__ior__", "__len__", "__contains__"],
         "Trial": ["__enter__", "__exit__"],
+    },
+    "papers": {
+        "Rate": ["__mul__", "__rmul__", "__eq__", "__str__", "__repr__"],
+        "Paper": ["__getitem__", "__len__", "__add__", "__mul__", "__eq__"],
+        "Weights": ["__or__", "__repr__"],
+        "Loads": ["__and__", "__repr__"],
     },
 }
 
@@ -96,14 +114,14 @@ class Form(unittest.TestCase):
         for path in FILES:
             for part in ast.walk(ast.parse(path.read_text())):
                 self.assertNotIsInstance(part, ast.Import)
-                if isinstance(part, ast.ImportFrom):
+                if isinstance(part, ast.ImportFrom) and part.module != "math":
                     self.assertRegex(part.module, "^barredrows[.][a-z]+$")
                     names = defined(PACKAGE / f"{part.module.split('.')[1]}.py")
                     own = [name for name in [item.name for item in part.names] if not name.isupper()]
                     self.assertEqual([name for name in own if name not in names], [], path.name)
 
     def test_barred_parts(self):
-        barred = (ast.Global, ast.AsyncFunctionDef, ast.Await, ast.Div)
+        barred = (ast.Global, ast.AsyncFunctionDef, ast.Await, ast.Div, ast.Pow, ast.GeneratorExp)
         for path in FILES:
             for part in ast.walk(ast.parse(path.read_text())):
                 self.assertNotIsInstance(part, barred, path.name)
