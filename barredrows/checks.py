@@ -12,12 +12,15 @@ from barredrows.errors import (
     InvalidState,
     InvalidSteps,
     InvalidTable,
+    InvalidText,
+    InvalidWord,
     InvalidWords,
 )
 
 MOST_IN_ROW = 2000
 MOST_IN_TABLE = 64
 MOST_LENGTH = 400
+MOST_IN_TEXT = 200
 
 
 def is_list(value):
@@ -91,6 +94,25 @@ def check_words(words, signs):
             raise InvalidWords(position)
         if not all([sign in signs for sign in word]):
             raise InvalidWords(position)
+
+
+def is_text(value, size):
+    """Whether any value is a list of words, each below size, of any length."""
+    return is_list(value) and all([is_between(word, 0, size - 1) for word in value])
+
+
+def check_word(word, size):
+    if not is_between(word, 0, size - 1):
+        raise InvalidWord(word)
+
+
+def check_text(text, size):
+    """Check a text of words below size."""
+    if not is_list(text) or len(text) > MOST_IN_TEXT:
+        raise InvalidText(None)
+    for position, word in enumerate(text):
+        if not is_between(word, 0, size - 1):
+            raise InvalidText(position)
 
 
 def check_limits(limits, signs):

@@ -38,7 +38,7 @@ def too_few(medium, rate, more=0):
     if has_weights(medium, rate):
         return None
     leads = medium.leads()
-    counts = ends_sums(leads, more, [1 for _ in leads])
+    counts = ends_sums(leads, more, [1 for _ in range(len(medium))])
     texts = 1
     for words in range(1, MOST_WORDS + 1):
         counts = ends_sums(leads, rate.q, counts)

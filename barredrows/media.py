@@ -73,7 +73,7 @@ class Medium:
         return [dict(leading) for leading in self._table]
 
     def leads(self):
-        """For each state a tuple of the states to which the signs lead, as barredrows.steps reckons with them."""
+        """The leads of barredrows.steps, with which is reckoned."""
         return self._leads
 
     def walk(self, row, state):

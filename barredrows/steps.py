@@ -1,32 +1,71 @@
-"""Sums over the ends of ways, reckoned sign by sign."""
+"""Sums over the ends of ways, reckoned sign by sign.
+
+Leads have for each state, and for one more behind them, a tuple of the states to which the signs lead. The one more
+stands for nowhere: what leads nowhere leads there, and its number is 0 in all sums.
+"""
+
+from barredrows.basics import ALL_SIGNS
 
 
 def leads_of(table, signs):
-    """For each state the states to which these signs lead, the number behind the last state for nowhere."""
+    """The leads of a table of these signs."""
     nowhere = len(table)
-    return tuple([tuple([leading.get(sign, nowhere) for sign in signs]) for leading in table])
+    return tuple([tuple([leading.get(sign, nowhere) for sign in signs]) for leading in [*table, {}]])
 
 
 def one_sum(leads, numbers):
     """For each state the sum of the numbers of the states to which its signs lead."""
-    # What leads nowhere adds nothing. The sums are written out, as nearly all reckoning comes down to them.
-    at = [*numbers, 0]
+    # The sums are written out, as nearly all reckoning comes down to them.
     if len(leads[0]) == 2:
-        return [at[one] + at[two] for one, two in leads]
+        return [numbers[one] + numbers[two] for one, two in leads]
     if len(leads[0]) == 3:
-        return [at[one] + at[two] + at[three] for one, two, three in leads]
-    return [at[one] + at[two] + at[three] + at[four] for one, two, three, four in leads]
+        return [numbers[one] + numbers[two] + numbers[three] for one, two, three in leads]
+    return [numbers[one] + numbers[two] + numbers[three] + numbers[four] for one, two, three, four in leads]
 
 
 def ends_sums(leads, length, numbers):
     """For each state the sum of the numbers of the ends of its ways of so many signs."""
+    sums = [*numbers, 0]
     for _ in range(length):
-        numbers = one_sum(leads, numbers)
-    return list(numbers)
+        sums = one_sum(leads, sums)
+    return sums[:-1]
+
+
+def all_sums(leads, length, numbers):
+    """For 0, 1 .. length signs, the sums of the numbers of the ends of all ways, from each state and from nowhere."""
+    sums = [[*numbers, 0]]
+    for _ in range(length):
+        sums.append(one_sum(leads, sums[-1]))
+    return sums
+
+
+def numbered_way(leads, sums, number, state):
+    """The way from the state whose ends have the number among their sums, and what is left of it at the end."""
+    way = ""
+    for further in sums[-2::-1]:
+        for sign, to in zip(ALL_SIGNS, leads[state]):
+            if number < further[to]:
+                break
+            number = number - further[to]
+        way = way + sign
+        state = to
+    return way, number
+
+
+def number_of_way(leads, sums, way, state):
+    """The sum of the ends of all ways from the state that come ahead of this one."""
+    number = 0
+    for further, found in zip(sums[-2::-1], way):
+        for sign, to in zip(ALL_SIGNS, leads[state]):
+            if sign == found:
+                break
+            number = number + further[to]
+        state = to
+    return number
 
 
 def ways_grid(leads, length):
     """How many ways of so many signs lead from each state, a list of its own, to each state."""
-    states = range(len(leads))
+    states = range(len(leads) - 1)
     columns = [ends_sums(leads, length, [1 if state == end else 0 for state in states]) for end in states]
     return [[column[state] for column in columns] for state in states]

@@ -2,6 +2,8 @@
 
 from barredrows.checks import MOST_LENGTH, check_length, check_state
 from barredrows.media import check_medium
+from barredrows.reach import bits_of, closed_reach, part_of
+from barredrows.steps import ways_grid
 from barredrows.tables import walks
 
 MOST_LISTED_LENGTH = 6
@@ -11,8 +13,7 @@ def ways(medium, length):
     """How many ways of so many signs lead from each state, a list of its own, to each state."""
     check_medium(medium)
     check_length(length, 0, MOST_LENGTH)
-    table = medium.table()
-    return [ends_from(table, length, state) for state in range(len(table))]
+    return ways_grid(medium.leads(), length)
 
 
 def ways_from(medium, length, state):
@@ -27,40 +28,8 @@ def parts(medium, length=1):
     """The parts for ways of so many signs, sorted lists of states."""
     check_medium(medium)
     check_length(length, 1, MOST_LENGTH)
-    reached = closed_reach(ways(medium, length))
-    states = range(len(reached))
-    found = []
-    for state in states:
-        part = [other for other in states if reached[state][other] and reached[other][state]]
-        # A part is found from each of its states; it is listed once, by the first of them.
-        if part and part[0] == state:
-            found.append(part)
-    return found
-
-
-def ends_from(table, length, start):
-    """To how many ways of so many signs from the state start each state is the end."""
-    many = [1 if state == start else 0 for state in range(len(table))]
-    for _ in range(length):
-        many = one_sign_further(table, many)
-    return many
-
-
-def one_sign_further(table, many):
-    further = [0 for _ in table]
-    for state, leading in enumerate(table):
-        for to in leading.values():
-            further[to] += many[state]
-    return further
-
-
-def closed_reach(many):
-    """Whether one or more ways, one after another, lead from each state to each, by the numbers of single ways."""
-    states = range(len(many))
-    reached = [[number > 0 for number in numbers] for numbers in many]
-    for middle in states:
-        reached = [
-            [reached[one][other] or (reached[one][middle] and reached[middle][other]) for other in states]
-            for one in states
-        ]
-    return reached
+    grid = ways_grid(medium.leads(), length)
+    closed = closed_reach([bits_of([to for to, many in enumerate(row) if many > 0]) for row in grid])
+    found = [part_of(closed, state) for state in range(len(closed))]
+    # A part is found from each of its states; it is listed once, by the first of them.
+    return [part for state, part in enumerate(found) if part and part[0] == state]

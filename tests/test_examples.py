@@ -2,6 +2,8 @@ import doctest
 import unittest
 from pathlib import Path
 
+from barredrows.ahead import look_ahead
+from barredrows.coders import Coder, fits, misfit
 from barredrows.counts import count, number_of, row_at, rows
 from barredrows.errors import InvalidNumbers
 from barredrows.exact import paper, too_few
@@ -10,7 +12,9 @@ from barredrows.media import Medium
 from barredrows.memory import is_endless, memory
 from barredrows.papers import Loads, Rate, Weights
 from barredrows.parting import parting
+from barredrows.pieces import Pieces
 from barredrows.rates import profile
+from barredrows.sharing import shared
 from barredrows.ways import parts, ways
 from tests.helpers import check_error
 
@@ -53,6 +57,21 @@ class Examples(unittest.TestCase):
         told = [fallings(bb, Rate(2, 3), 1), greatest_weights(bb, Rate(2, 3), 3).numbers(), needs(bb, Rate(2, 3))]
         self.assertEqual(told, [[[1, 1], [1, 0], [0, 0]], [3, 2], (2, 1)])
         self.assertEqual([profile(bb), profile(sums)], [[0, 1, 2, 2, 3, 4], [0, 1, 1, 2, 2, 3]])
+
+    def test_stages_5_and_6(self):
+        bb, sums = self.bb, self.sums
+        weights = Weights(bb, Rate(2, 3), [2, 1])
+        pair = Coder(Rate(1, 2), [[("ab", 0), ("ba", 0)]])
+        told = [pair([0, 1, 1]), pair[0, 1], fits(sums, pair), misfit(bb, pair), len(pair)]
+        self.assertEqual(told, ["abbaba", ("ba", 0), True, [0, 1], 1])
+        share = shared(weights)
+        told = [share.read_back(share.written([3, 0, 2])), share.tail_length(), fits(bb, share.coder()),
+                share.read_back("bb")]
+        self.assertEqual(told, [[3, 0, 2], 1, True, None])
+        even = Pieces.of(weights).evened()
+        code = even.coder()
+        self.assertEqual([even.numbers(), fits(bb, code), look_ahead(code), look_ahead(pair)],
+                         [[1, 1, 1], True, 1, 0])
 
     def test_readme(self):
         text = (Path(__file__).resolve().parent.parent / "README.md").read_text()

@@ -37,6 +37,25 @@ INTERFACE = {
         "least_weight": "medium rate", "is_decline": "medium rate most value", "needs": "medium rate",
     },
     "rates": {"best": "medium length", "profile": "medium"},
+    "coders": {
+        "Coder": "rate codes lead", "Coder.rate": "", "Coder.lead": "", "Coder.codes": "", "Coder.end": "text state",
+        "Coder.blocks": "text state", "Coder.spelled": "text", "Coder.__call__": "text", "misfit": "medium coder",
+        "fits": "medium coder",
+    },
+    "sharing": {
+        "Sharing": "weights shares", "Sharing.weights": "", "Sharing.shares": "", "Sharing.coder": "state",
+        "Sharing.tail_length": "", "Sharing.tail": "state number", "Sharing.written": "text",
+        "Sharing.read_back": "value", "shared": "weights",
+    },
+    "ahead": {
+        "look_ahead": "coder", "is_enough": "coder ahead", "blind_texts": "coder ahead", "blind_ring": "coder",
+        "is_blind_ring": "coder value",
+    },
+    "pieces": {
+        "Pieces.of": "weights", "Pieces.medium": "", "Pieces.rate": "", "Pieces.is_even": "", "Pieces.numbers": "",
+        "Pieces.states": "", "Pieces.entries": "piece", "Pieces.split_at": "piece chosen", "Pieces.choice": "",
+        "Pieces.evened": "", "Pieces.coder": "piece",
+    },
 }
 OPERATORS = {
     "media": {"Medium": ["__len__", "__contains__", "__and__", "__rshift__", "__eq__", "__repr__"]},
@@ -50,6 +69,9 @@ OPERATORS = {
         "Weights": ["__or__", "__repr__"],
         "Loads": ["__and__", "__repr__"],
     },
+    "coders": {"Coder": ["__len__", "__getitem__", "__call__", "__eq__", "__repr__"]},
+    "sharing": {"Sharing": ["__eq__"]},
+    "pieces": {"Pieces": ["__len__", "__eq__"]},
 }
 
 
