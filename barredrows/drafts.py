@@ -2,7 +2,7 @@
 
 from barredrows.basics import is_count, is_sign
 from barredrows.checks import MOST_IN_TABLE, check_many, check_sign, check_state
-from barredrows.errors import InvalidSigns, NothingLeft, NothingToUndo, UnknownWay
+from barredrows.errors import InvalidSigns, NothingToUndo, UnknownWay
 from barredrows.media import Medium, check_medium
 
 
@@ -47,12 +47,12 @@ class Draft:
     def made(self):
         """The Medium of the table, as far as its states lead on or are led to."""
         ways = self._ways()
-        if not ways:
-            raise NothingLeft()
-        greatest = max([max(state, to) for (state, _), to in ways.items()])
-        table = [{} for _ in range(greatest + 1)]
+        # States that neither lead on nor are led to make no difference, so the others are numbered without them.
+        states = sorted(set([0] + [state for state, _ in ways] + list(ways.values())))
+        numbers = {state: number for number, state in enumerate(states)}
+        table = [{} for _ in states]
         for (state, sign), to in ways.items():
-            table[state][sign] = to
+            table[numbers[state]][sign] = numbers[to]
         return Medium(self.width, table)
 
     def undo(self):

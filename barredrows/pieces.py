@@ -5,8 +5,8 @@ from barredrows.checks import is_list
 from barredrows.coders import Coder
 from barredrows.errors import InvalidChoice, InvalidNumber, NotEven, TooMany
 from barredrows.papers import check_weights
-from barredrows.reach import bits_of, closed_reach, part_of, states_of
-from barredrows.steps import ends_sums, ways_grid
+from barredrows.reach import bits_of, closed_reach, part_of, reached_after, states_of
+from barredrows.steps import ends_sums
 from barredrows.tables import walks
 
 MOST_IN_ALL = 64
@@ -30,8 +30,8 @@ class Pieces:
             raise TooMany("weight", MOST_IN_ALL)
         medium, rate, numbers = weights.medium, weights.rate, weights.numbers()
         states = closed_states(weights)
-        inner = [number if state in states else 0 for state, number in enumerate(numbers)]
-        sums = ends_sums(medium.leads(), rate.q, inner)
+        # No way leads from the set to other states with weights, so theirs are not among the sums.
+        sums = ends_sums(medium.leads(), rate.q, numbers)
         if sum([sums[state] for state in states]) > Coder.MOST_ENTRIES:
             raise TooMany("entries", Coder.MOST_ENTRIES)
         table = medium.table()
@@ -143,10 +143,8 @@ class Pieces:
 def closed_states(weights):
     """The first set of states with weights that lead to one another and, with weights, to no others."""
     weighted = [state for state, number in enumerate(weights.numbers()) if number > 0]
-    grid = ways_grid(weights.medium.leads(), weights.rate.q)
-    single = [bits_of([to for to in weighted if row[to] > 0]) if state in weighted else 0
-              for state, row in enumerate(grid)]
-    closed = closed_reach(single)
+    reached = reached_after(weights.medium.leads(), weights.rate.q)
+    closed = closed_reach([bits & bits_of(weighted) for bits in reached])
     found = [state for state in weighted if part_of(closed, state) == states_of(closed[state])]
     return part_of(closed, found[0])
 

@@ -6,6 +6,8 @@ stands for nowhere: what leads nowhere leads there, and its number is 0 in all s
 
 from barredrows.basics import ALL_SIGNS
 
+MOST_SHORT = 30
+
 
 def leads_of(table, signs):
     """The leads of a table of these signs."""
@@ -66,6 +68,37 @@ def number_of_way(leads, sums, way, state):
 
 def ways_grid(leads, length):
     """How many ways of so many signs lead from each state, a list of its own, to each state."""
+    halvings = 0
+    while length >> halvings > MOST_SHORT:
+        halvings += 1
+    grid = short_grid(leads, length >> halvings)
+    single = short_grid(leads, 1)
+    for further in range(halvings - 1, -1, -1):
+        grid = joined_grids(grid, grid)
+        if length >> further & 1:
+            grid = joined_grids(single, grid)
+    return grid
+
+
+def short_grid(leads, length):
+    """The same as ways_grid, for a few signs."""
     states = range(len(leads) - 1)
-    columns = [ends_sums(leads, length, [1 if state == end else 0 for state in states]) for end in states]
-    return [[column[state] for column in columns] for state in states]
+    # Each end is a digit of its own, greater than all counts, so one sum counts the ways to all of them.
+    width = 2 * length + 1
+    sums = ends_sums(leads, length, [1 << width * end for end in states])
+    greatest = (1 << width) - 1
+    return [[total >> width * end & greatest for end in states] for total in sums]
+
+
+def joined_grids(one, other):
+    """How many ways there are of one grid followed by one of the other."""
+    ends = [[(end, many) for end, many in enumerate(row) if many > 0] for row in other]
+    found = []
+    for row in one:
+        sums = [0 for _ in row]
+        for state, number in enumerate(row):
+            if number > 0:
+                for end, many in ends[state]:
+                    sums[end] += number * many
+        found.append(sums)
+    return found

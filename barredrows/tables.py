@@ -1,5 +1,8 @@
 """Tables as plain lists of dicts: walking them, and reducing them to the table of a medium."""
 
+from barredrows.basics import ALL_SIGNS
+from barredrows.steps import leads_of
+
 
 def walked(table, row, state):
     """The state to which the row leads from the state, None if it cannot be walked."""
@@ -31,6 +34,20 @@ def least_rows(table):
     return found
 
 
+def reached_part(table, start):
+    """The table of the states to which rows lead from the start, which becomes the state 0."""
+    order = [start]
+    places = {start: 0}
+    at = 0
+    while at < len(order):
+        for to in table[order[at]].values():
+            if to not in places:
+                places[to] = len(order)
+                order.append(to)
+        at += 1
+    return [{sign: places[to] for sign, to in table[old].items()} for old in order]
+
+
 def living_part(table):
     """The table without the signs that lead to dead states; a dead state keeps its number, and leads nowhere."""
     alive = [True for _ in table]
@@ -39,38 +56,42 @@ def living_part(table):
         if still == alive:
             break
         alive = still
-    return [{sign: leading[sign] for sign in sorted(leading) if alive[leading[sign]]} for leading in table]
-
-
-def numbered(marks):
-    """Numbers from 0 for the marks, the same one for equal marks."""
-    numbers = {}
-    for mark in marks:
-        if mark not in numbers:
-            numbers[mark] = len(numbers)
-    return [numbers[mark] for mark in marks]
+    return [{sign: to for sign, to in leading.items() if alive[to]} for leading in table]
 
 
 def kinds_of(table):
     """A number for each state of a table without dead ends, the same one for states that are like."""
+    leads = leads_of(table, ALL_SIGNS)[:-1]
     kinds = [0 for _ in table]
     while True:
-        marks = [tuple([(sign, kinds[leading[sign]]) for sign in sorted(leading)]) for leading in table]
-        finer = numbered(marks)
+        # Where a sign leads nowhere the number is none of a kind.
+        known = [*kinds, -1]
+        finer = numbered([(known[one], known[two], known[three], known[four]) for one, two, three, four in leads])
         # Each round only parts kinds, so an equal number of kinds means that none was parted.
         if max(finer) == max(kinds):
             return kinds
         kinds = finer
 
 
+def numbered(marks):
+    """Numbers from 0 for the marks, the same one for equal marks."""
+    numbers = {}
+    found = []
+    for mark in marks:
+        if mark not in numbers:
+            numbers[mark] = len(numbers)
+        found.append(numbers[mark])
+    return found
+
+
 def least_table(table, start=0):
     """The table of the medium that begins in this state, with any number of states; empty if the state is dead."""
-    living = living_part(table)
-    if not living[start]:
+    living = living_part(reached_part(table, start))
+    if not living[0]:
         return []
     kinds = kinds_of(living)
-    order = [start]
-    places = {kinds[start]: 0}
+    order = [0]
+    places = {kinds[0]: 0}
     at = 0
     # States are met in the order of the least rows that lead to them.
     while at < len(order):
@@ -85,10 +106,18 @@ def least_table(table, start=0):
 
 
 def meet_table(one, other):
-    """A table for the rows of both tables; its states are all pairs of their states."""
-    size = len(other)
-    return [
-        {sign: first[sign] * size + second[sign] for sign in sorted(first) if sign in second}
-        for first in one
-        for second in other
-    ]
+    """A table for the rows of both tables; its states are the pairs of states to which a row leads."""
+    order = [(0, 0)]
+    places = {(0, 0): 0}
+    table = []
+    at = 0
+    while at < len(order):
+        first, second = one[order[at][0]], other[order[at][1]]
+        at += 1
+        leading = {sign: (first[sign], second[sign]) for sign in first if sign in second}
+        for pair in leading.values():
+            if pair not in places:
+                places[pair] = len(order)
+                order.append(pair)
+        table.append({sign: places[pair] for sign, pair in leading.items()})
+    return table

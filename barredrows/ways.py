@@ -2,7 +2,7 @@
 
 from barredrows.checks import MOST_LENGTH, check_length, check_state
 from barredrows.media import check_medium
-from barredrows.reach import bits_of, closed_reach, part_of
+from barredrows.reach import closed_reach, part_of, reached_after
 from barredrows.steps import ways_grid
 from barredrows.tables import walks
 
@@ -28,8 +28,7 @@ def parts(medium, length=1):
     """The parts for ways of so many signs, sorted lists of states."""
     check_medium(medium)
     check_length(length, 1, MOST_LENGTH)
-    grid = ways_grid(medium.leads(), length)
-    closed = closed_reach([bits_of([to for to, many in enumerate(row) if many > 0]) for row in grid])
+    closed = closed_reach(reached_after(medium.leads(), length))
     found = [part_of(closed, state) for state in range(len(closed))]
     # A part is found from each of its states; it is listed once, by the first of them.
     return [part for state, part in enumerate(found) if part and part[0] == state]

@@ -4,9 +4,13 @@ from random import Random
 from barredrows.ahead import blind_ring, blind_texts, is_blind_ring, is_enough, look_ahead
 from barredrows.coders import Coder
 from barredrows.errors import InvalidCoder, InvalidCount, TooMany
-from barredrows.papers import Rate
+from barredrows.media import Medium
+from barredrows.papers import Rate, Weights
+from barredrows.pieces import Pieces
 from tests.helpers import NO_INTEGERS, OTHERS, check_error, kinds
 from tests.test_coders import NO_CODERS, PAIR, all_texts, followed, random_coders
+from tests.test_least import narrow_ring
+from tests.test_sharing import few_weights
 
 ONE_ONE = Rate(1, 1)
 ONE_TWO = Rate(1, 2)
@@ -110,6 +114,35 @@ class LookAhead(unittest.TestCase):
         self.assertIsNone(look_ahead(same))
         self.check_certificates(same, None, 10)
 
+    def test_by_pairs_of_states(self):
+        """Coders of pieces, by following all pairs of states with the same blocks at once."""
+        met = {}
+        for weights in [*few_weights(85, 150), Weights(narrow_ring(4), Rate(1, 1), [1, 2, 4, 8, 16, 8, 4, 2]),
+                        Weights(Medium.barring(2, "bb"), Rate(2, 3), [26, 16])]:
+            coder = Pieces.of(weights).evened().coder()
+            codes = coder.codes()
+            pairs = {(one[1], other[1]) for entries in codes for at, one in enumerate(entries)
+                     for other in entries[:at] if one[0] == other[0]}
+            ahead = 0
+            while pairs:
+                pairs = {(one[1], other[1]) for first, second in pairs for one in codes[first]
+                         for other in codes[second] if one[0] == other[0]}
+                ahead += 1
+            self.assertEqual(look_ahead(coder), ahead)
+            self.check_certificates(coder, ahead, ahead + 2)
+            met[ahead] = True
+        self.assertGreater(len(met), 4)
+
+    def test_several_beginnings(self):
+        # Behind the state 1 two words are told apart sooner than behind the state 0.
+        codes = [[("aa", 1), ("aa", 2)], [("ab", 3), ("ab", 4)], [("ab", 5), ("ba", 0)], [("bb", 0), ("ba", 0)],
+                 [("cc", 0), ("ca", 0)], [("dd", 0), ("da", 0)]]
+        for order in ([0, 1, 2, 3, 4, 5], [1, 0, 2, 3, 4, 5]):
+            made = [[(block, order.index(to)) for block, to in codes[old]] for old in order]
+            coder = Coder(ONE_TWO, made)
+            self.assertEqual(look_ahead(coder), 2)
+            self.check_certificates(coder, 2, 5)
+
     def test_long_look_ahead(self):
         for length in (1, 2, 5, 31):
             coder = chain(length)
@@ -191,6 +224,12 @@ class BlindRings(unittest.TestCase):
             self.assertIs(is_blind_ring(LATE, value), False)
         for value in [*no, *OTHERS]:
             self.assertIs(is_blind_ring(BLIND, value), False, value)
+
+    def test_states_of_a_ring(self):
+        coder = Coder(ONE_ONE, [[("a", 0), ("a", 0)]])
+        self.assertIs(is_blind_ring(coder, (0, [0], [1], [0], [0])), True)
+        for value in (*NO_INTEGERS, -1, 1, 10 ** 30):
+            self.assertIs(is_blind_ring(coder, (value, [0], [1], [0], [0])), False)
 
     def test_rings_that_come_apart(self):
         random = Random(83)

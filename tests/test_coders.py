@@ -24,8 +24,8 @@ BB = Medium.barring(2, "bb")
 SUMS = Medium.sums(1, -1, low=-1, high=1)
 ONE_TWO = Rate(1, 2)
 PAIR = Coder(ONE_TWO, [[("ab", 0), ("ba", 0)]])
-NO_TEXTS = (None, True, 0, 1, "", "ab", {}, {0: 1}, set(), {0}, b"a", range(2), object(), Thing(), [0] * 201, (0,) * 201,
-            [None] * 201)
+NO_TEXTS = (None, True, 0, 1, "", "ab", {}, {0: 1}, set(), {0}, b"a", range(2), object(), Thing(), [0] * 201,
+            (0,) * 201, [None] * 201)
 NO_CODERS = (*OTHERS, PAIR.codes(), ONE_TWO, BB)
 
 

@@ -146,6 +146,11 @@ class WrongDrafts(unittest.TestCase):
         check_error(self, NothingLeft, Draft(2).made)
         check_error(self, NothingLeft, made_of(2, (0, "a", 1)).made)
         check_error(self, NothingLeft, made_of(2, (63, "a", 63)).made)
+        for state in range(1, 63):
+            check_error(self, NothingLeft, made_of(2, (state, "a", state)).made)
+            check_error(self, NothingLeft, made_of(2, (state, "a", 63), (63, "b", state)).made)
+            self.assertEqual(made_of(2, (0, "a", state), (state, "b", 0), (63, "a", 63)).made().table(),
+                             [{"a": 1}, {"b": 0}])
         ring = made_of(2, *[(state, "a", (state + 1) % 17) for state in range(17)], (16, "b", 0))
         check_error(self, TooMany, ring.made, what="states", limit=16)
         ring.bar(15, "a")

@@ -1,7 +1,7 @@
 import unittest
 from random import Random
 
-from barredrows.errors import InvalidCount, InvalidMedium, InvalidRate, TooMany
+from barredrows.errors import InvalidCount, InvalidMedium, InvalidRate, NothingLeft, TooMany
 from barredrows.exact import has_weights, paper, too_few
 from barredrows.media import Medium
 from barredrows.papers import Loads, Rate, Weights
@@ -18,13 +18,12 @@ def big_medium(random, many, least):
     signs = "abcd"[:many]
     while True:
         table = [{sign: random.randrange(16) for sign in signs if random.randrange(100) < 75} for _ in range(16)]
-        if any(ways for ways in table) and table[0]:
-            try:
-                medium = Medium(many, table)
-            except Exception:
-                continue
-            if len(medium) >= least:
-                return medium
+        try:
+            medium = Medium(many, table)
+        except NothingLeft:
+            continue
+        if len(medium) >= least:
+            return medium
 
 
 def big_media(seed, number):

@@ -243,7 +243,8 @@ class Declines(unittest.TestCase):
     def test_values_of_other_kinds(self):
         value = [[1, 1], [1, 0], [0, 0]]
         for other in (*OTHERS, [], (), [[]], [[1, 1], [1, 0], [0, 0, 0]], [[1, 1], [1], [0, 0]], [[1, 1], None, [0, 0]],
-                      [[1, 1], {0: 1, 1: 0}, [0, 0]], {0: [1, 1]}, "ab", [1, 1], ["11", "10", "00"], [[1, 1], "10", [0, 0]]):
+                      [[1, 1], {0: 1, 1: 0}, [0, 0]], {0: [1, 1]}, "ab", [1, 1], ["11", "10", "00"],
+                      [[1, 1], "10", [0, 0]]):
             self.assertIs(is_decline(BB, TWO_THREE, 1, other), False, other)
         for at in range(3):
             for state in range(2):

@@ -79,8 +79,8 @@ class Rates(unittest.TestCase):
         self.assertTrue(Rate.read(string="2:3") == TWO_THREE)
         self.assertTrue(TWO_THREE.read("6:1") == Rate(6, 1))
         for value in (*NO_RATES[:-5], "", ":", "2:", ":3", "2:3 ", " 2:3", "2:03", "02:3", "+2:3", "2 3", "2;3", "0:3",
-                      "7:1", "1:7", "2:0", "2:-3", "-2:3", "12:3", "2:12", "a:b", "2::3", "2:3\n", "2:3:4", ("2", ":", "3"),
-                      ["2", ":", "3"], b"2:3", TWO_THREE, 23, "2/3", "123"):
+                      "7:1", "1:7", "2:0", "2:-3", "-2:3", "12:3", "2:12", "a:b", "2::3", "2:3\n", "2:3:4",
+                      ("2", ":", "3"), ["2", ":", "3"], b"2:3", TWO_THREE, 23, "2/3", "123"):
             check_error(self, InvalidRate, Rate.read, value, value=value)
 
 
@@ -152,6 +152,9 @@ class Papers(unittest.TestCase):
         for value in [*others, *OTHERS, [2, 1], (2, 1)]:
             self.assertIs(WEIGHTS == value, False)
             self.assertIs(WEIGHTS != value, True)
+        for value in [WEIGHTS, LOADS * 2, *OTHERS, [3, 2], (3, 2)]:
+            self.assertIs(LOADS == value, False)
+            self.assertIs(LOADS != value, True)
         # The same numbers, once with another medium, once with another class.
         aa = Medium.barring(2, "aa")
         self.assertFalse(Weights(BB, Rate(1, 3), [1, 1]) == Weights(aa, Rate(1, 3), [1, 1]))
@@ -219,7 +222,8 @@ class Together(unittest.TestCase):
         other = Loads(BB, THREE_FOUR, [8, 5])
         self.assertEqual(repr(LOADS + other), "Loads(3:4, [11, 7])")
         self.assertEqual(repr(LOADS & other), "Loads(3:4, [3, 2])")
-        self.assertEqual(repr(Weights(BB, Rate(1, 3), [1, 2]) | Weights(BB, Rate(1, 3), [2, 1])), "Weights(1:3, [2, 2])")
+        one, two = Weights(BB, Rate(1, 3), [1, 2]), Weights(BB, Rate(1, 3), [2, 1])
+        self.assertEqual(repr(one | two), "Weights(1:3, [2, 2])")
         self.assertEqual(repr(Loads(BB, Rate(4, 3), [1, 2]) & Loads(BB, Rate(4, 3), [2, 1])), "Loads(4:3, [1, 1])")
 
     def test_no_papers(self):

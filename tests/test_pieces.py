@@ -11,18 +11,12 @@ from barredrows.pieces import Pieces
 from tests.helpers import NO_INTEGERS, OTHERS, Thing, all_rows, check_error, kinds, plain_sums, plain_walk
 from tests.test_coders import followed
 from tests.test_least import narrow_ring
-from tests.test_sharing import NO_WEIGHTS, some_weights
+from tests.test_sharing import NO_WEIGHTS, few_weights
 
 BB = Medium.barring(2, "bb")
 SUMS = Medium.sums(1, -1, low=-1, high=1)
 WEIGHTS = Weights(BB, Rate(2, 3), [2, 1])
 PIECES = Pieces.of(WEIGHTS)
-
-
-def few_weights(seed, number, most_total=64):
-    """Weights of which there are pieces."""
-    return [weights for weights in some_weights(seed, number, most_total)
-            if sum(plain_sums(weights.medium, weights.rate.q, weights.numbers())) <= 2000]
 
 
 def told(pieces):
@@ -132,8 +126,6 @@ class OfWeights(unittest.TestCase):
         self.assertEqual(Pieces.of(Weights(free, Rate(1, 1), [64])).numbers(), [64])
         check_error(self, TooMany, Pieces.of, Weights(free, Rate(1, 1), [65]), what="weight", limit=64)
         # The total is that of all weights, not of those of the set alone.
-        medium = Medium(2, [{"a": 0, "b": 1}, {"a": 1, "b": 1}])
-        self.assertEqual(Medium(3, [{"a": 0, "b": 1}, {"a": 1, "c": 1}]).table(), [{"a": 0, "b": 1}, {"a": 1, "c": 1}])
         medium = Medium(3, [{"a": 0, "b": 1}, {"a": 1, "c": 1}])
         self.assertEqual(Pieces.of(Weights(medium, Rate(1, 1), [32, 32])).numbers(), [32])
         check_error(self, TooMany, Pieces.of, Weights(medium, Rate(1, 1), [32, 33]), what="weight", limit=64)
@@ -197,9 +189,11 @@ class Splits(unittest.TestCase):
     def test_some(self):
         made = PIECES.split_at(0, [0, 1, 4])
         self.assertEqual(told(made), [[1, 1, 1], [0, 1, 0], [
-            [("aaa", 0), ("aaa", 2), ("aab", 1), ("bab", 1)], [("aaa", 0), ("aaa", 2), ("aab", 1), ("aba", 0), ("aba", 2)],
+            [("aaa", 0), ("aaa", 2), ("aab", 1), ("bab", 1)],
+            [("aaa", 0), ("aaa", 2), ("aab", 1), ("aba", 0), ("aba", 2)],
             [("aba", 0), ("aba", 2), ("baa", 0), ("baa", 2)]]])
-        self.assertEqual([made.is_even, made.choice(), made.evened() == made, made == PIECES], [True, None, True, False])
+        self.assertEqual([made.is_even, made.choice()], [True, None])
+        self.assertEqual([made.evened() == made, made == PIECES], [True, False])
 
     def test_choices(self):
         met = {True: 0, False: 0}
@@ -295,6 +289,16 @@ class Splits(unittest.TestCase):
             self.assertIs(PIECES == value, False)
             self.assertIs(PIECES != value, True)
         self.assertFalse(two.split_at(0, [1]) == two.split_at(0, [0]))
+        # The same entries with other weights, for another rate, and of another state.
+        free = Medium.free(4)
+        self.assertFalse(Pieces.of(Weights(free, Rate(1, 1), [1])) == two)
+        self.assertFalse(Pieces.of(Weights(free, Rate(2, 1), [2])) == two)
+        self.assertTrue(Pieces.of(Weights(free, Rate(1, 1), [2])) == two)
+        medium = Medium(3, [{"a": 0, "b": 0, "c": 1}, {"a": 1, "b": 1}])
+        one, other = [Pieces.of(Weights(medium, Rate(1, 1), numbers)) for numbers in ([1, 0], [0, 1])]
+        entries = [[("a", 0), ("b", 0)]]
+        self.assertEqual([told(one), told(other)], [[[1], [0], entries], [[1], [1], entries]])
+        self.assertFalse(one == other)
         self.assertTrue(two.split_at(0, [1]) == two.split_at(0, (1,)))
 
     def test_lists_are_new(self):
@@ -314,8 +318,8 @@ class WrongPieces(unittest.TestCase):
             check_error(self, InvalidNumber, PIECES.coder, value, value=value)
 
     def test_no_choices(self):
-        for value in (*OTHERS, [], (), [0], [0, 1], [4, 1, 0], [0, 4, 1], [0, 0, 1], [1, 1, 1, 1], [0, 1, 5], [-1, 0, 1],
-                      [0, 1, True], [False, 1, 4], [0, 1, "4"], [0, 1, None], [0, 1, [4]], "014", {0: 1, 1: 1, 4: 1},
+        for value in (*OTHERS, [], (), [0], [0, 1], [4, 1, 0], [0, 4, 1], [0, 0, 1], [1, 1, 1, 1], [0, 1, 5],
+                      [-1, 0, 1], [0, 1, True], [False, 1, 4], [0, 1, "4"], [0, 1, None], [0, 1, [4]], "014", {0: 1, 1: 1, 4: 1},
                       {0, 1, 4}, range(3), [0, 2, 3, 1, 4], [0, 1, 2, 3, 4], [0, 1, 10 ** 30], 0, Thing()):
             check_error(self, InvalidChoice, PIECES.split_at, 0, value, value=value)
         # The weight 1 of the other piece cannot be split.

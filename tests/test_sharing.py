@@ -3,13 +3,21 @@ from random import Random
 
 from barredrows.coders import Coder, fits
 from barredrows.counts import row_at
-from barredrows.errors import InvalidNumber, InvalidPaper, InvalidSharing, InvalidState, InvalidText, LimitError, TooMany
+from barredrows.errors import (
+    InvalidNumber,
+    InvalidPaper,
+    InvalidSharing,
+    InvalidState,
+    InvalidText,
+    LimitError,
+    TooMany,
+)
 from barredrows.exact import has_weights, paper
 from barredrows.least import greatest_weights, least_weight
 from barredrows.media import Medium
 from barredrows.papers import Loads, Rate, Weights
 from barredrows.sharing import Sharing, shared
-from tests.helpers import NO_INTEGERS, NO_ROWS, OTHERS, Thing, all_rows_to, check_error, kinds, plain_walk
+from tests.helpers import NO_INTEGERS, NO_ROWS, OTHERS, Thing, all_rows_to, check_error, kinds, plain_sums, plain_walk
 from tests.test_coders import NO_TEXTS, followed, texts_to
 from tests.test_exact import big_media
 from tests.test_media import random_media
@@ -49,6 +57,12 @@ def some_weights(seed, number, most_total=64):
             found += [weights for weights in told if weights.total <= most_total
                       and weights.total * rate.size <= 2000]
     return found
+
+
+def few_weights(seed, number, most_total=64):
+    """Weights of which there are pieces."""
+    return [weights for weights in some_weights(seed, number, most_total)
+            if sum(plain_sums(weights.medium, weights.rate.q, weights.numbers())) <= 2000]
 
 
 def mixed(random, weights):
@@ -278,6 +292,10 @@ class Sharings(unittest.TestCase):
         for value in (Sharing(WEIGHTS, other), shared(Weights(BB, Rate(1, 3), [2, 1])), *OTHERS, SHARES, WEIGHTS):
             self.assertIs(SHARE == value, False)
             self.assertIs(SHARE != value, True)
+        # The same shares of other weights.
+        shares = [[[("a", 0), ("b", 0)]]]
+        two, three = [Sharing(Weights(Medium.free(many), Rate(1, 1), [1]), shares) for many in (2, 3)]
+        self.assertEqual([two == two, two == three, two.shares() == three.shares()], [True, False, True])
 
     def test_what_was_passed_stays(self):
         shares = [[list(slots) for slots in pairs] for pairs in SHARES]

@@ -1,4 +1,5 @@
 import unittest
+from random import Random
 
 from barredrows.errors import InvalidCount, InvalidMedium, InvalidState
 from barredrows.media import Medium
@@ -58,6 +59,17 @@ class Ways(unittest.TestCase):
         product = [[sum(one[s][m] * one[m][t] for m in (0, 1)) for t in (0, 1)] for s in (0, 1)]
         self.assertEqual(ways(BB, 400), product)
 
+    def test_greater_lengths(self):
+        """Ways of so many signs are ways of one sign less, and one more."""
+        random = Random(13)
+        for _, medium in random_media(14, 12):
+            states = range(len(medium))
+            table = medium.table()
+            for length in (1, 29, 30, 31, 32, 33, 60, 61, 62, 63, 64, 123, 255, 256, random.randrange(65, 400), 400):
+                rows = ways(medium, length - 1)
+                wanted = [[sum(rows[to][end] for to in table[state].values()) for end in states] for state in states]
+                self.assertEqual(ways(medium, length), wanted)
+
     def test_lists_are_new(self):
         first, second = ways(SUMS, 0), ways(SUMS, 0)
         self.assertEqual(len({id(found) for found in [first, second, *first, *second]}), 8)
@@ -83,6 +95,19 @@ class Parts(unittest.TestCase):
         self.assertEqual([parts(SUMS), parts(SUMS, 2), parts(length=3, medium=SUMS)],
                          [[[0, 1, 2]], [[0], [1, 2]], [[0, 1, 2]]])
         self.assertEqual([parts(SUMS, 399), parts(SUMS, 400)], [[[0, 1, 2]], [[0], [1, 2]]])
+
+    def test_greater_lengths(self):
+        for _, medium in random_media(15, 25):
+            for length in (5, 6, 7, 12, 31, 32, 60, 255, 400):
+                grid = ways(medium, length)
+                reached = [{end for end, many in enumerate(row) if many} for row in grid]
+                while True:
+                    further = [ends.union(*[reached[end] for end in ends]) for ends in reached]
+                    if further == reached:
+                        break
+                    reached = further
+                found = {tuple(end for end in ends if state in reached[end]) for state, ends in enumerate(reached)}
+                self.assertEqual(parts(medium, length), sorted(list(part) for part in found if part))
 
     def test_states_in_no_part(self):
         medium = Medium(2, [{"a": 1}, {"a": 2, "b": 3}, {"b": 3}, {"a": 3}])
