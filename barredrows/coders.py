@@ -133,11 +133,12 @@ def kept_codes(codes):
     places = {0: 0}
     at = 0
     while at < len(order):
-        for _, to in codes[order[at]]:
+        entries = codes[order[at]]
+        at += 1
+        for _, to in entries:
             if to not in places:
                 places[to] = len(order)
                 order.append(to)
-        at += 1
     return [[(block, places[to]) for block, to in codes[old]] for old in order]
 
 

@@ -16,12 +16,13 @@ def heights(after):
     at = 0
     # Nodes are done in the order of their heights, so the last one that a node waits for is its highest.
     while at < len(done):
-        for node in before[done[at]]:
+        last = done[at]
+        at += 1
+        for node in before[last]:
             left[node] -= 1
             if left[node] == 0:
-                high[node] = high[done[at]] + 1
+                high[node] = high[last] + 1
                 done.append(node)
-        at += 1
     return high
 
 

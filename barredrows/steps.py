@@ -92,13 +92,17 @@ def short_grid(leads, length):
 
 def joined_grids(one, other):
     """How many ways there are of one grid followed by one of the other."""
-    ends = [[(end, many) for end, many in enumerate(row) if many > 0] for row in other]
+    further = [above_zero(row) for row in other]
     found = []
     for row in one:
         sums = [0 for _ in row]
-        for state, number in enumerate(row):
-            if number > 0:
-                for end, many in ends[state]:
-                    sums[end] += number * many
+        for state, number in above_zero(row):
+            for end, many in further[state]:
+                sums[end] += number * many
         found.append(sums)
     return found
+
+
+def above_zero(numbers):
+    """The tuples of a state and its number, without the numbers 0."""
+    return [(state, number) for state, number in enumerate(numbers) if number > 0]

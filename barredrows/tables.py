@@ -40,11 +40,12 @@ def reached_part(table, start):
     places = {start: 0}
     at = 0
     while at < len(order):
-        for to in table[order[at]].values():
+        leading = table[order[at]]
+        at += 1
+        for to in leading.values():
             if to not in places:
                 places[to] = len(order)
                 order.append(to)
-        at += 1
     return [{sign: places[to] for sign, to in table[old].items()} for old in order]
 
 

@@ -236,6 +236,10 @@ class Fits(unittest.TestCase):
 
 
 class WrongCoders(unittest.TestCase):
+    def tearDown(self):
+        """Behind each refusal the coder is as it was."""
+        self.assertEqual([PAIR.codes(), PAIR.lead, PAIR([0, 1])], [[[("ab", 0), ("ba", 0)]], "", "abba"])
+
     def test_no_rates(self):
         for value in NO_RATES:
             check_error(self, InvalidRate, Coder, value, None, None, value=value)

@@ -257,6 +257,10 @@ class Declines(unittest.TestCase):
 
 
 class WrongCalls(unittest.TestCase):
+    def tearDown(self):
+        """Behind each refusal the medium and the rate are as they were."""
+        self.assertEqual([BB.table(), repr(TWO_THREE)], [[{"a": 0, "b": 1}, {"a": 0}], "Rate(2, 3)"])
+
     def test_no_media_no_rates(self):
         for call, more in ((fall, [None]), (fallings, [None]), (greatest_weights, [None]), (least_weight, []),
                            (needs, []), (is_decline, [None, None])):

@@ -267,6 +267,11 @@ class Together(unittest.TestCase):
 
 
 class WrongPapers(unittest.TestCase):
+    def tearDown(self):
+        """Behind each refusal the papers are as they were."""
+        self.assertEqual([repr(WEIGHTS), repr(LOADS)], ["Weights(2:3, [2, 1])", "Loads(3:4, [3, 2])"])
+        self.assertTrue(WEIGHTS.medium == BB)
+
     def test_no_media_no_rates(self):
         for paper in (Weights, Loads):
             for value in (*OTHERS, BB.table(), WEIGHTS):

@@ -71,6 +71,18 @@ def is_plain_choice(pieces, piece, chosen):
     return total % size == 0 and 1 <= total // size < numbers[piece]
 
 
+def some_choices(pieces, random):
+    """Some choices at any pieces."""
+    found = []
+    for piece in range(len(pieces)):
+        many = len(pieces.entries(piece))
+        for _ in range(20):
+            chosen = sorted(random.sample(range(many), random.randrange(1, many + 1)))
+            if is_plain_choice(pieces, piece, chosen):
+                found.append((piece, chosen))
+    return found
+
+
 class OfWeights(unittest.TestCase):
     def test_against_a_plain_listing(self):
         met = {True: 0, False: 0}
@@ -252,6 +264,26 @@ class Splits(unittest.TestCase):
                 self.assertIn((block, found[to]), entries)
         self.assertEqual(len(set(found.values())), len(codes))
 
+    def test_any_splits_and_then_even(self):
+        random = Random(96)
+        met = 0
+        for weights in few_weights(97, 200, 24):
+            begin = Pieces.of(weights)
+            pieces = begin
+            for _ in range(3):
+                choices = some_choices(pieces, random)
+                if choices:
+                    pieces = pieces.split_at(*random.choice(choices))
+                    met += 1
+            even = pieces.evened()
+            self.assertTrue(even.is_even)
+            OfWeights.check_conditions(self, even)
+            self.assertEqual(sum(even.numbers()), sum(begin.numbers()))
+            coder = even.coder(random.randrange(len(even)))
+            self.assertTrue(fits(weights.medium, coder))
+            self.assertLessEqual(look_ahead(coder), len(even) - len(begin))
+        self.assertGreater(met, 40)
+
     def test_even_from_the_beginning(self):
         pieces = Pieces.of(Weights(SUMS, Rate(1, 2), [0, 3, 3]))
         self.assertEqual([pieces.is_even, pieces.choice(), pieces.evened() == pieces], [True, None, True])
@@ -289,7 +321,9 @@ class Splits(unittest.TestCase):
             self.assertIs(PIECES == value, False)
             self.assertIs(PIECES != value, True)
         self.assertFalse(two.split_at(0, [1]) == two.split_at(0, [0]))
-        # The same entries with other weights, for another rate, and of another state.
+        # The same entries of another medium, with other weights, for another rate, and of another state.
+        few, more = [Medium(many, [{"a": 0, "b": 0}]) for many in (2, 3)]
+        self.assertFalse(Pieces.of(Weights(few, Rate(1, 1), [2])) == Pieces.of(Weights(more, Rate(1, 1), [2])))
         free = Medium.free(4)
         self.assertFalse(Pieces.of(Weights(free, Rate(1, 1), [1])) == two)
         self.assertFalse(Pieces.of(Weights(free, Rate(2, 1), [2])) == two)
@@ -311,6 +345,11 @@ class Splits(unittest.TestCase):
 
 
 class WrongPieces(unittest.TestCase):
+    def tearDown(self):
+        """Behind each refusal the pieces are as they were."""
+        self.assertEqual(told(PIECES), plain_pieces(WEIGHTS))
+        self.assertEqual(WEIGHTS.numbers(), [2, 1])
+
     def test_no_numbers(self):
         for value in (*NO_INTEGERS, -1, 2, 10 ** 30):
             check_error(self, InvalidNumber, PIECES.entries, value, value=value)
@@ -319,8 +358,9 @@ class WrongPieces(unittest.TestCase):
 
     def test_no_choices(self):
         for value in (*OTHERS, [], (), [0], [0, 1], [4, 1, 0], [0, 4, 1], [0, 0, 1], [1, 1, 1, 1], [0, 1, 5],
-                      [-1, 0, 1], [0, 1, True], [False, 1, 4], [0, 1, "4"], [0, 1, None], [0, 1, [4]], "014", {0: 1, 1: 1, 4: 1},
-                      {0, 1, 4}, range(3), [0, 2, 3, 1, 4], [0, 1, 2, 3, 4], [0, 1, 10 ** 30], 0, Thing()):
+                      [-1, 0, 1], [0, 1, True], [False, 1, 4], [0, 1, "4"], [0, 1, None], [0, 1, [4]], "014",
+                      {0: 1, 1: 1, 4: 1}, {0, 1, 4}, range(3), [0, 2, 3, 1, 4], [0, 1, 2, 3, 4],
+                      [0, 1, 10 ** 30], 0, Thing()):
             check_error(self, InvalidChoice, PIECES.split_at, 0, value, value=value)
         # The weight 1 of the other piece cannot be split.
         for value in ([0, 1], [0, 1, 2], [0, 2]):

@@ -314,6 +314,11 @@ class Sharings(unittest.TestCase):
 
 
 class WrongSharings(unittest.TestCase):
+    def tearDown(self):
+        """Behind each refusal the sharing is as it was."""
+        self.assertEqual(SHARE.shares(), SHARES)
+        self.assertEqual([WEIGHTS.numbers(), SHARE.written([0, 3])], [[2, 1], "babaaab"])
+
     def test_no_weights(self):
         for value in NO_WEIGHTS:
             check_error(self, InvalidPaper, Sharing, value, None, value=value)
