@@ -139,7 +139,7 @@ def kept_codes(codes):
             if to not in places:
                 places[to] = len(order)
                 order.append(to)
-    return [[(block, places[to]) for block, to in codes[old]] for old in order]
+    return [[(block, places[further]) for block, further in codes[old]] for old in order]
 
 
 def is_entry(value, length, size):

@@ -37,7 +37,7 @@ def from_all(bits, reached):
 def closed_reach(reached):
     """What is reached from each state by one or more steps, by what is reached by single ones."""
     closed = list(reached)
-    for middle in range(len(closed)):
+    for middle in range(len(reached)):
         further = closed[middle]
         closed = [bits | further if bits >> middle & 1 else bits for bits in closed]
     return closed

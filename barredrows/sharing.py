@@ -145,7 +145,7 @@ def shared(weights):
 def tail_counts(weights):
     """For 0, 1 .. signs, how many rows there are, up to the first length with enough rows for each weight."""
     leads = weights.medium.leads()
-    counts = all_sums(leads, 0, [1 for _ in range(len(weights))])
+    counts = [[1 for _ in range(len(weights))] + [0]]
     while not all([number <= many for number, many in zip(weights.numbers(), counts[-1])]):
         counts.append(one_sum(leads, counts[-1]))
     return counts

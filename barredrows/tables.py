@@ -46,7 +46,7 @@ def reached_part(table, start):
             if to not in places:
                 places[to] = len(order)
                 order.append(to)
-    return [{sign: places[to] for sign, to in table[old].items()} for old in order]
+    return [{sign: places[further] for sign, further in table[old].items()} for old in order]
 
 
 def living_part(table):
@@ -103,7 +103,7 @@ def least_table(table, start=0):
                 places[kind] = len(order)
                 order.append(leading[sign])
         at += 1
-    return [{sign: places[kinds[living[old][sign]]] for sign in sorted(living[old])} for old in order]
+    return [{key: places[kinds[living[old][key]]] for key in sorted(living[old])} for old in order]
 
 
 def meet_table(one, other):
