@@ -34,21 +34,6 @@ def least_rows(table):
     return found
 
 
-def reached_part(table, start):
-    """The table of the states to which rows lead from the start, which becomes the state 0."""
-    order = [start]
-    places = {start: 0}
-    at = 0
-    while at < len(order):
-        leading = table[order[at]]
-        at += 1
-        for to in leading.values():
-            if to not in places:
-                places[to] = len(order)
-                order.append(to)
-    return [{sign: places[further] for sign, further in table[old].items()} for old in order]
-
-
 def living_part(table):
     """The table without the signs that lead to dead states; a dead state keeps its number, and leads nowhere."""
     alive = [True for _ in table]
@@ -87,12 +72,12 @@ def numbered(marks):
 
 def least_table(table, start=0):
     """The table of the medium that begins in this state, with any number of states; empty if the state is dead."""
-    living = living_part(reached_part(table, start))
-    if not living[0]:
+    living = living_part(table)
+    if not living[start]:
         return []
     kinds = kinds_of(living)
-    order = [0]
-    places = {kinds[0]: 0}
+    order = [start]
+    places = {kinds[start]: 0}
     at = 0
     # States are met in the order of the least rows that lead to them.
     while at < len(order):
