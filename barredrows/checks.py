@@ -2,6 +2,7 @@
 
 from barredrows.basics import is_between, is_count, is_integer, is_row, is_sign
 from barredrows.errors import (
+    InvalidBlock,
     InvalidBounds,
     InvalidCount,
     InvalidLimits,
@@ -113,6 +114,24 @@ def check_text(text, size):
     for position, word in enumerate(text):
         if not is_between(word, 0, size - 1):
             raise InvalidText(position)
+
+
+def is_block(value, length):
+    """Whether any value is a row of so many signs."""
+    return is_row(value) and len(value) == length
+
+
+def check_block(block, length):
+    if not is_block(block, length):
+        raise InvalidBlock(block)
+
+
+def check_blocks(blocks, length):
+    """Check a list of rows of so many signs each."""
+    if not is_list(blocks):
+        raise InvalidBlock(blocks)
+    for block in blocks:
+        check_block(block, length)
 
 
 def check_limits(limits, signs):

@@ -1,7 +1,7 @@
 """Coders: tables that write a row for each text."""
 
-from barredrows.basics import is_between, is_row
-from barredrows.checks import check_row, check_state, check_text, check_word, is_list
+from barredrows.basics import is_between
+from barredrows.checks import check_row, check_state, check_text, check_word, is_block, is_list
 from barredrows.errors import InvalidCoder, InvalidTable, TooMany
 from barredrows.media import check_medium
 from barredrows.papers import check_rate
@@ -127,6 +127,15 @@ def text_to(met, pair):
     return words[::-1]
 
 
+def blocks_in(coder, row):
+    """The blocks of which the row consists behind the lead, None if it does not begin so or has another length."""
+    length = coder.rate.q
+    begin = len(coder.lead)
+    if not row.startswith(coder.lead) or (len(row) - begin) % length != 0:
+        return None
+    return [row[at:at + length] for at in range(begin, len(row), length)]
+
+
 def kept_codes(codes):
     """The code table of the states to which texts lead, in the order of the least ones."""
     order = [0]
@@ -146,7 +155,7 @@ def is_entry(value, length, size):
     """Whether any value is a tuple of a row of so many signs and one of so many states."""
     if not isinstance(value, tuple) or len(value) != 2:
         return False
-    return is_row(value[0]) and len(value[0]) == length and is_between(value[1], 0, size - 1)
+    return is_block(value[0], length) and is_between(value[1], 0, size - 1)
 
 
 def check_codes(codes, rate):

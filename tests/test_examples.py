@@ -5,8 +5,10 @@ from pathlib import Path
 from barredrows.ahead import look_ahead
 from barredrows.coders import Coder, fits, misfit
 from barredrows.counts import count, number_of, row_at, rows
+from barredrows.damage import WindowReader, spoiled
 from barredrows.errors import InvalidNumbers
 from barredrows.exact import paper, too_few
+from barredrows.judging import derived, loses_nothing, still_open
 from barredrows.least import fallings, greatest_weights, needs
 from barredrows.media import Medium
 from barredrows.memory import is_endless, memory
@@ -14,8 +16,10 @@ from barredrows.papers import Loads, Rate, Weights
 from barredrows.parting import parting
 from barredrows.pieces import Pieces
 from barredrows.rates import profile
+from barredrows.readers import Reader, closed, read_closed
 from barredrows.sharing import shared
 from barredrows.ways import parts, ways
+from barredrows.windows import has_window, window
 from tests.helpers import check_error
 
 
@@ -70,8 +74,20 @@ class Examples(unittest.TestCase):
         self.assertEqual(told, [[3, 0, 2], 1, True, None])
         even = Pieces.of(weights).evened()
         code = even.coder()
-        self.assertEqual([even.numbers(), fits(bb, code), look_ahead(code), look_ahead(pair)],
-                         [[1, 1, 1], True, 1, 0])
+        told = [even.numbers(), fits(bb, code), look_ahead(code), look_ahead(pair),
+                read_closed(code, closed(code, [1, 2, 3]))]
+        self.assertEqual(told, [[1, 1, 1], True, 1, 0, [1, 2, 3]])
+        reader = Reader(pair)
+        self.assertEqual([reader("ba"), reader("ab"), reader.words(), reader.pending], [[1], [0], [1, 0], 0])
+
+    def test_stages_7_and_8(self):
+        pair = Coder(Rate(1, 2), [[("ab", 0), ("ba", 0)]])
+        told = [window(pair), has_window(pair, 3, 1), WindowReader(pair)(["ab", "aa", "ba"]),
+                spoiled(pair, [0, 1, 1], 2, "a")]
+        self.assertEqual(told, [(0, 0), True, [0, None, 1], [1]])
+        told = [derived(self.sums, pair).numbers(), loses_nothing(pair), still_open(pair, "abba"),
+                still_open(pair, "a")]
+        self.assertEqual(told, [[1, 0, 0], True, 1, 0])
 
     def test_readme(self):
         text = (Path(__file__).resolve().parent.parent / "README.md").read_text()

@@ -56,6 +56,24 @@ INTERFACE = {
         "Pieces.states": "", "Pieces.entries": "piece", "Pieces.split_at": "piece chosen", "Pieces.choice": "",
         "Pieces.evened": "", "Pieces.coder": "piece",
     },
+    "readers": {
+        "closed": "coder text", "read_closed": "coder value", "Reader": "coder", "Reader.__call__": "block",
+        "Reader.source": "", "Reader.pending": "", "Reader.words": "", "Reader.copy": "",
+        "tried_reader": "reader action",
+    },
+    "windows": {
+        "has_window": "coder behind ahead", "window": "coder", "endless_runs": "coder",
+        "is_endless_runs": "coder value",
+    },
+    "damage": {
+        "WindowReader": "coder", "WindowReader.source": "", "WindowReader.behind": "", "WindowReader.ahead": "",
+        "WindowReader.spread": "", "WindowReader.__call__": "blocks", "damaged": "blocks place sign",
+        "spoiled": "coder text place sign",
+    },
+    "judging": {
+        "loses_nothing": "coder", "clash": "coder", "is_clash": "coder value", "still_open": "coder row",
+        "derived": "medium coder",
+    },
 }
 OPERATORS = {
     "media": {"Medium": ["__len__", "__contains__", "__and__", "__rshift__", "__eq__", "__repr__"]},
@@ -72,6 +90,8 @@ OPERATORS = {
     "coders": {"Coder": ["__len__", "__getitem__", "__call__", "__eq__", "__repr__"]},
     "sharing": {"Sharing": ["__eq__"]},
     "pieces": {"Pieces": ["__len__", "__eq__"]},
+    "readers": {"Reader": ["__call__", "__enter__", "__exit__"]},
+    "damage": {"WindowReader": ["__call__"]},
 }
 
 
