@@ -107,9 +107,9 @@ def check_word(word, size):
         raise InvalidWord(word)
 
 
-def check_text(text, size):
-    """Check a text of words below size."""
-    if not is_list(text) or len(text) > MOST_IN_TEXT:
+def check_text(text, size, least=0, most=MOST_IN_TEXT):
+    """Check a text of words below size, from least to most of them."""
+    if not is_list(text) or not least <= len(text) <= most:
         raise InvalidText(None)
     for position, word in enumerate(text):
         if not is_between(word, 0, size - 1):

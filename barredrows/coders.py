@@ -92,11 +92,25 @@ def misfit(medium, coder):
     """The least text whose row is not allowed, None if there is none."""
     check_medium(medium)
     check_coder(coder)
+    text, _ = followed_in(medium, coder)
+    return text
+
+
+def fits(medium, coder):
+    """Whether the rows of all texts are allowed."""
+    return misfit(medium, coder) is None
+
+
+def followed_in(medium, coder):
+    """The least text whose row is not allowed, or None, and the list of the pairs of states that were met.
+
+    Each pair has a state of the coder and the one of the medium to which the same text leads.
+    """
     place = medium.walk(coder.lead, 0)
     if place is None:
-        return []
+        return [], []
     codes = coder.codes()
-    # Pairs of a state of the coder and one of the medium are met in the order of the least texts that lead to them.
+    # Pairs are met in the order of the least texts that lead to them.
     order = [(0, place)]
     met = {(0, place): None}
     at = 0
@@ -106,16 +120,11 @@ def misfit(medium, coder):
         for word, (block, to) in enumerate(codes[pair[0]]):
             further = (to, medium.walk(block, pair[1]))
             if further[1] is None:
-                return [*text_to(met, pair), word]
+                return [*text_to(met, pair), word], order
             if further not in met:
                 met[further] = (pair, word)
                 order.append(further)
-    return None
-
-
-def fits(medium, coder):
-    """Whether the rows of all texts are allowed."""
-    return misfit(medium, coder) is None
+    return None, order
 
 
 def text_to(met, pair):
@@ -125,6 +134,12 @@ def text_to(met, pair):
         pair, word = met[pair]
         words.append(word)
     return words[::-1]
+
+
+def row_of(coder, text):
+    """The row of a text of any length."""
+    blocks, _ = coder.follow(text, 0)
+    return coder.lead + "".join(blocks)
 
 
 def blocks_in(coder, row):

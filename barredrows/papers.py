@@ -31,9 +31,7 @@ class Rate:
     @staticmethod
     def read(string):
         """The Rate that is written P:Q."""
-        if not isinstance(string, str) or len(string) != 3 or string[1] != ":":
-            raise InvalidRate(string)
-        if string[0] not in DIGITS or string[2] not in DIGITS:
+        if not is_rate(string):
             raise InvalidRate(string)
         return Rate(int(string[0]), int(string[2]))
 
@@ -165,6 +163,13 @@ class Loads(Paper):
 
     def __repr__(self):
         return f"Loads({self._rate}, {self._numbers})"
+
+
+def is_rate(value):
+    """Whether any value is a string P:Q."""
+    if not isinstance(value, str) or len(value) != 3 or value[1] != ":":
+        return False
+    return value[0] in DIGITS and value[2] in DIGITS
 
 
 def multiple(rate, times):

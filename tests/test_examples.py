@@ -3,13 +3,18 @@ import unittest
 from pathlib import Path
 
 from barredrows.ahead import look_ahead
+from barredrows.alike import merged, parting_text
+from barredrows.bits import packed, unpacked
 from barredrows.coders import Coder, fits, misfit
 from barredrows.counts import count, number_of, row_at, rows
 from barredrows.damage import WindowReader, spoiled
+from barredrows.desk import Desk
 from barredrows.errors import InvalidNumbers
 from barredrows.exact import paper, too_few
+from barredrows.judge import certificate_of, is_certificate
 from barredrows.judging import derived, loses_nothing, still_open
 from barredrows.least import fallings, greatest_weights, needs
+from barredrows.marks import join
 from barredrows.media import Medium
 from barredrows.memory import is_endless, memory
 from barredrows.papers import Loads, Rate, Weights
@@ -24,7 +29,7 @@ from tests.helpers import check_error
 
 
 class Examples(unittest.TestCase):
-    """The examples of the document, as far as they need what there is."""
+    """The examples of the document."""
 
     def setUp(self):
         self.bb = Medium.barring(2, "bb")
@@ -88,6 +93,21 @@ class Examples(unittest.TestCase):
         told = [derived(self.sums, pair).numbers(), loses_nothing(pair), still_open(pair, "abba"),
                 still_open(pair, "a")]
         self.assertEqual(told, [[1, 0, 0], True, 1, 0])
+        double = Coder(Rate(1, 2), [[("ab", 1), ("ba", 0)], [("ab", 0), ("ba", 1)]])
+        told = [parting_text(double, pair), merged(double) == pair, join(self.bb, "aaa", "aa"),
+                join(self.bb, "aaa", "b")]
+        self.assertEqual(told, [None, True, "b", ""])
+
+    def test_stage_9(self):
+        told = [packed(Rate(2, 3), [1, 0, 1]), packed(Rate(2, 3), [1, 0]), unpacked(Rate(2, 3), [2, 2])]
+        self.assertEqual(told, [[2, 3], [2, 2], [1, 0]])
+        claim = ("states", self.bb, Rate(2, 3), 2)
+        told = [is_certificate(claim, certificate_of(claim)), is_certificate(claim, [[1, 1], [0, 0]]),
+                certificate_of(("loads", self.bb, Rate(2, 3)))]
+        self.assertEqual(told, [True, False, None])
+        desk = Desk()
+        told = desk.do_all("bar m 2 bb", "best m", "needs m 2:3", "paper m 3:4", "text t 0 1", "undo")
+        self.assertEqual(told, ["2", "0 1 2 2 3 4", "2 1", "loads", "2", "done"])
 
     def test_readme(self):
         text = (Path(__file__).resolve().parent.parent / "README.md").read_text()

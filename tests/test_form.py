@@ -74,6 +74,14 @@ INTERFACE = {
         "loses_nothing": "coder", "clash": "coder", "is_clash": "coder value", "still_open": "coder row",
         "derived": "medium coder",
     },
+    "alike": {"parting_text": "one other", "write_same": "one other", "merged": "coder"},
+    "marks": {"clear_rows": "medium mark", "join": "medium mark row"},
+    "bits": {"packed": "rate bits", "unpacked": "rate text"},
+    "judge": {"is_claim": "value", "certificate_of": "claim", "is_certificate": "claim value"},
+    "desk": {
+        "Desk": "", "Desk.do": "command", "Desk.do_all": "*commands", "Desk.undo": "", "Desk.put": "name thing",
+        "Desk.named": "name", "Desk.names": "", "Desk.log": "", "Desk.tried": "action",
+    },
 }
 OPERATORS = {
     "media": {"Medium": ["__len__", "__contains__", "__and__", "__rshift__", "__eq__", "__repr__"]},
@@ -92,6 +100,7 @@ OPERATORS = {
     "pieces": {"Pieces": ["__len__", "__eq__"]},
     "readers": {"Reader": ["__call__", "__enter__", "__exit__"]},
     "damage": {"WindowReader": ["__call__"]},
+    "desk": {"Desk": ["__setitem__", "__len__", "__contains__"]},
 }
 
 
