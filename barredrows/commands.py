@@ -60,7 +60,7 @@ def is_written(kind, word):
 
 def is_number(word):
     """Whether a word is a decimal INTEGER without unnecessary zeros."""
-    digits = word[1:] if word.startswith("-") else word
+    digits = word.removeprefix("-")
     if digits == "" or not all([digit in DIGITS for digit in digits]):
         return False
     return word == "0" or digits[0] != "0"
@@ -76,5 +76,14 @@ def is_name(value):
 def meaning(kind, word):
     """What a word stands for that is no name."""
     if kind == "number":
-        return int(word)
+        return number_of_word(word)
     return Rate.read(word) if kind == "rate" else word
+
+
+def number_of_word(word):
+    """The INTEGER that is written."""
+    number = 0
+    # Digit by digit, as Python refuses to read some thousands of them at once.
+    for digit in word.removeprefix("-"):
+        number = 10 * number + int(digit)
+    return -number if word.startswith("-") else number

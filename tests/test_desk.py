@@ -246,7 +246,8 @@ class Commands(unittest.TestCase):
 
     def test_errors_of_what_is_done(self):
         do = self.desk.do
-        for many in (-1, 0, 1, 5, 10 ** 30):
+        check_error(self, InvalidText, do, "text n 1 2 -" + "9" * 4900, position=2)
+        for many in (-1, -20, 0, 1, 5, 10 ** 30):
             check_error(self, InvalidSigns, do, f"free n {many}", value=many)
             check_error(self, InvalidSigns, do, f"bar n {many} aaaaaaaaa", value=many)
         check_error(self, InvalidWords, do, "bar n 2 aa aaaaaaaaa", position=1)
